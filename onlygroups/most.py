@@ -1,0 +1,3 @@
+"""The bound on how many orders are listed one by one."""
+
+MOST = 300

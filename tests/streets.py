@@ -1,0 +1,103 @@
+"""Rows to test with, and plain counts over lines of plots to compare the program with.
+
+A street is drawn as a text, "#" for a house and "." for an empty plot, and its runs are read off the text.
+"""
+
+import itertools
+import re
+
+
+def rows_on(plots):
+    """All rows on so many plots."""
+    for many in range(plots + 1):
+        yield from itertools.permutations(range(plots), many)
+
+
+def mixed_rows(plots, tries):
+    """Some rows on so many plots, the same ones in every run; no house and the full street are among them."""
+    state = plots
+    for attempt in range(tries):
+        left = list(range(plots))
+        row = []
+        for step in range(plots * attempt // max(tries - 1, 1)):
+            state = (state * 1103515245 + 12345) & 0x7FFFFFFF
+            row.append(left.pop((state >> 8) % len(left)))
+        yield tuple(row)
+
+
+def all_streets():
+    """Pairs of plots and row: every row on streets of 0 to 5 plots, some on streets of 6 to 16."""
+    for plots in range(6):
+        for row in rows_on(plots):
+            yield plots, row
+    for plots in range(6, 17):
+        for row in mixed_rows(plots, 25):
+            yield plots, row
+        yield plots, tuple(range(plots))
+        yield plots, tuple(reversed(range(plots)))
+        yield plots, tuple(range(0, plots, 2)) + tuple(range(1, plots, 2))
+
+
+def drawn(plots, row):
+    return "".join("#" if plot in row else "." for plot in range(plots))
+
+
+def runs(plots, row):
+    """The pairs of the first and the last plot of each group."""
+    return [(found.start(), found.end() - 1) for found in re.finditer("#+", drawn(plots, row))]
+
+
+def plain_groups(plots, row):
+    return tuple(len(runs(plots, row[:time + 1])) for time in range(len(row)))
+
+
+def plain_houses(plots, row):
+    counts = (0,) + plain_groups(plots, row)
+    return tuple({1: "new", 0: "beside", -1: "between"}[late - early] for early, late in zip(counts, counts[1:]))
+
+
+def plain_choice(plots, before, plot):
+    """The choice of a house on the plot after the row before."""
+    standing = runs(plots, before)
+    on_left = [at for at, (first, last) in enumerate(standing) if last == plot - 1]
+    on_right = [at for at, (first, last) in enumerate(standing) if first == plot + 1]
+    if on_left and on_right:
+        return ("between", on_left[0])
+    if on_left:
+        return ("beside", 2 * on_left[0] + 1)
+    if on_right:
+        return ("beside", 2 * on_right[0])
+    return ("new", len([last for first, last in standing if last < plot]))
+
+
+def plain_choices(plots, row):
+    return tuple(plain_choice(plots, row[:time], plot) for time, plot in enumerate(row))
+
+
+def plain_gaps(plots, row):
+    return tuple(len(empty) for empty in re.split("#+", drawn(plots, row)))
+
+
+def choices_for(many):
+    """All choices of a house that finds so many groups."""
+    found = [("new", number) for number in range(0, many + 1)]
+    found += [("beside", number) for number in range(0, 2 * many)]
+    found += [("between", number) for number in range(0, many - 1)]
+    return found
+
+
+def all_choices(times):
+    """Pairs of CHOICES for so many times and the number of groups after them."""
+    if times == 0:
+        yield (), 0
+        return
+    for earlier, many in all_choices(times - 1):
+        for choice in choices_for(many):
+            yield earlier + (choice,), many + {"new": 1, "beside": 0, "between": -1}[choice[0]]
+
+
+def all_gaps(many, empty):
+    """All gaps for so many groups with so many empty plots."""
+    for gaps in itertools.product(range(empty + 1), repeat=many + 1):
+        if sum(gaps) == empty and all(gap >= 1 for gap in gaps[1:-1]):
+            yield gaps
