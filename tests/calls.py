@@ -46,3 +46,21 @@ def check_thing(test, function, arguments, thing, expected):
     kept = copy.deepcopy(thing)
     test.assertIs(function(*arguments, thing), expected, (function.__name__, arguments, str(type(thing))))
     test.assertTrue(same_kind(thing, kept))
+
+
+def raised(test, error_class, attribute, call):
+    """The value of the attribute of the error that the call raises; it is of this very class."""
+    with test.assertRaises(error_class) as caught:
+        call()
+    test.assertIs(type(caught.exception), error_class)
+    return getattr(caught.exception, attribute)
+
+
+def check_error(test, function, arguments, error_class, attribute, value):
+    """The call raises the error with the value, also with lists for tuples and by name, and changes no argument."""
+    in_lists = {name: as_lists(part) for name, part in arguments.items()}
+    for given in (arguments, in_lists):
+        kept = copy.deepcopy(given)
+        for call in (lambda: function(*given.values()), lambda: function(**given)):
+            test.assertTrue(same_kind(raised(test, error_class, attribute, call), value), (function.__name__, given))
+        test.assertTrue(all(same_kind(given[name], kept[name]) for name in kept))

@@ -4,6 +4,7 @@ A street is drawn as a text, "#" for a house and "." for an empty plot, and its 
 """
 
 import itertools
+import random
 import re
 
 
@@ -101,3 +102,45 @@ def all_gaps(many, empty):
     for gaps in itertools.product(range(empty + 1), repeat=many + 1):
         if sum(gaps) == empty and all(gap >= 1 for gap in gaps[1:-1]):
             yield gaps
+
+
+def plain_notes(plots, row):
+    """All notes that are true for a row, ascending."""
+    notes = [(time, "groups", many) for time, many in enumerate(plain_groups(plots, row))]
+    notes += [(time, "house", word) for time, word in enumerate(plain_houses(plots, row))]
+    return sorted(notes)
+
+
+def sorted_rows(plots, times):
+    """The rows of so many houses, ascending by the pairs of their choices and gaps, each with its true notes."""
+    rows = itertools.permutations(range(plots), times)
+    ascending = sorted(rows, key=lambda row: (plain_choices(plots, row), plain_gaps(plots, row)))
+    return [(row, set(plain_notes(plots, row))) for row in ascending]
+
+
+def any_notes(source, times):
+    """Notes that need not be true."""
+    notes = []
+    for time in range(times):
+        if source.randrange(3) == 0:
+            notes.append((time, "groups", source.choice([1, 1, 2, 2, 3, times, times + 1, 10 ** 30])))
+        if source.randrange(3) == 0:
+            notes.append((time, "house", source.choice(["new", "beside", "between"])))
+    return tuple(notes)
+
+
+def true_notes(source, plots, row):
+    """Some of the notes that are true for a row."""
+    share = source.choice([1, 2, 4])
+    return tuple(note for note in plain_notes(plots, row) if source.randrange(4) < share)
+
+
+def some_journals(plots, times, tries):
+    """Journals with no, with all, with true and with any notes, the same ones in every run."""
+    source = random.Random(plots * 100 + times)
+    yield (plots, times, ())
+    for attempt in range(tries):
+        row = tuple(source.sample(range(plots), times))
+        yield (plots, times, tuple(plain_notes(plots, row)))
+        yield (plots, times, true_notes(source, plots, row))
+        yield (plots, times, any_notes(source, times))

@@ -4,7 +4,7 @@ import unittest
 from onlygroups.choices import changed, choices_of, gaps_of, is_choices, is_gaps, row_of
 from onlygroups.errors import NoChoice, NoTime
 from onlygroups.rows import groups, houses, is_row
-from tests.calls import as_lists, check_call, check_parameters, check_thing
+from tests.calls import as_lists, check_call, check_error, check_parameters, check_thing
 from tests.streets import all_choices, all_gaps, all_streets, choices_for, plain_choices, plain_gaps, plain_groups
 from tests.streets import rows_on
 from tests.things import HUGE, ODD_THINGS
@@ -226,14 +226,7 @@ class TranslationTests(unittest.TestCase):
 class ChangedTests(unittest.TestCase):
 
     def check_error(self, arguments, error_class, attribute, value):
-        for given in (arguments, {name: as_lists(part) for name, part in arguments.items()}):
-            kept = copy.deepcopy(given)
-            for call in (lambda: changed(*given.values()), lambda: changed(**given)):
-                with self.assertRaises(error_class) as caught:
-                    call()
-                self.assertIs(type(caught.exception), error_class)
-                self.assertTrue(getattr(caught.exception, attribute) == value)
-            self.assertTrue(given == kept)
+        check_error(self, changed, arguments, error_class, attribute, value)
 
     def check_time(self, plots, row, time, rows):
         """Compares each change of the time with the only row that has the changed choices."""

@@ -1,6 +1,7 @@
 """The rules of the language subset that can be read off the files of the package."""
 
 import ast
+import builtins
 import pathlib
 import re
 import unittest
@@ -63,6 +64,44 @@ class LanguageTests(unittest.TestCase):
                     self.assertNotIsInstance(node.value, float, path.name)
                     if isinstance(node.value, str):
                         self.assertNotIn("%", node.value, path.name)
+
+    def test_no_generator_expressions(self):
+        for path in package_files():
+            for node in ast.walk(ast.parse(path.read_text())):
+                self.assertNotIsInstance(node, (ast.GeneratorExp, ast.SetComp, ast.Global, ast.Yield), path.name)
+
+    def test_no_name_is_a_method_and_an_attribute(self):
+        methods, attributes = set(), set()
+        for path in package_files():
+            for node in ast.walk(ast.parse(path.read_text())):
+                if isinstance(node, ast.ClassDef):
+                    methods |= {part.name for part in node.body if isinstance(part, ast.FunctionDef)}
+                if isinstance(node, ast.Attribute) and isinstance(node.ctx, ast.Store):
+                    attributes.add(node.attr)
+        self.assertEqual(methods & attributes, set())
+
+    def test_local_names_hide_nothing(self):
+        for path in package_files():
+            tree = ast.parse(path.read_text())
+            taken = set(dir(builtins))
+            for node in tree.body:
+                taken |= {name.name for name in node.names} if isinstance(node, ast.ImportFrom) else set()
+                taken |= {node.name} if isinstance(node, (ast.ClassDef, ast.FunctionDef)) else set()
+            for node in ast.walk(tree):
+                if isinstance(node, ast.arg):
+                    self.assertNotIn(node.arg, taken, path.name)
+                if isinstance(node, ast.Name) and isinstance(node.ctx, ast.Store):
+                    self.assertNotIn(node.id, taken, path.name)
+
+    def test_no_two_files_import_from_each_other(self):
+        needs = {}
+        for path in package_files():
+            nodes = ast.walk(ast.parse(path.read_text()))
+            needs[path.stem] = {node.module.split(".")[-1] for node in nodes if isinstance(node, ast.ImportFrom)}
+        while needs:
+            free = [name for name in needs if not needs[name] & set(needs)]
+            self.assertTrue(free, needs)
+            needs = {name: needs[name] for name in needs if name not in free}
 
 
 if __name__ == "__main__":
