@@ -31,19 +31,25 @@ def is_word_then(noted, time, many, word):
     return noted.get((time, "house"), word) == word and noted.get((time, "groups"), after) == after
 
 
+def words_then(noted, time, many):
+    """The words that the house of the time can have if it finds so many groups, as they ascend."""
+    return [word for word in ASCENDING_WORDS if is_word_then(noted, time, many, word)]
+
+
 def blocks_then(noted, ways, time, many):
     """The words that the house of the time can have if it finds so many groups, as they ascend.
 
     Each is in a triple with how many CHOICEs have it, and how many ways lead on from each of these.
     """
-    words = [word for word in ASCENDING_WORDS if is_word_then(noted, time, many, word)]
+    words = words_then(noted, time, many)
     return [(word, many_choices(word, many), ways[many + STEPS[word]]) for word in words]
 
 
-def all_ways(journal):
-    """The list, for each time and for the end, of the list of how many ways lead on from each number of groups then.
+def folded_ways(journal, fold):
+    """The list, for each time and for the end, of the list of the ways that lead on from each number of groups then.
 
-    A way is the CHOICES of the houses from that time on and the GAPS.
+    A way is the CHOICES of the houses from that time on and the GAPS. The function fold makes one number of the list
+    of how many ways there are with each word.
     """
     plots, times, notes = journal
     noted = noted_values(notes)
@@ -51,9 +57,42 @@ def all_ways(journal):
     found = [ways]
     for time in reversed(range(times)):
         rows = [blocks_then(noted, ways, time, many) for many in range(time + 1)]
-        ways = [sum([choices * block for word, choices, block in blocks]) for blocks in rows]
+        ways = [fold([choices * block for word, choices, block in blocks]) for blocks in rows]
         found.append(ways)
     return found[::-1]
+
+
+def in_all(parts):
+    """The sum, as a function of the package: one of Python's own is not passed on."""
+    return sum(parts)
+
+
+def all_ways(journal):
+    """The list, for each time and for the end, of the list of how many ways lead on from each number of groups then."""
+    return folded_ways(journal, in_all)
+
+
+def counts_after(noted, counts, time, ways_with):
+    """The counts of what leads to each number of groups after the house of the time, from those before it.
+
+    The function ways_with tells, of a word and a number of groups, in how many ways such a house is counted.
+    """
+    after = [0] * (len(counts) + 1)
+    for many, count in enumerate(counts):
+        for word in words_then(noted, time, many):
+            after[many + STEPS[word]] += count * ways_with(word, many)
+    return after
+
+
+def all_starts(journal):
+    """The list, for each time and for the end, of the list of how many CHOICES lead to each number of groups then."""
+    noted = noted_values(journal[2])
+    starts = [1]
+    found = [starts]
+    for time in range(journal[1]):
+        starts = counts_after(noted, starts, time, many_choices)
+        found.append(starts)
+    return found
 
 
 def count_orders(journal):

@@ -3,6 +3,7 @@
 A street is drawn as a text, "#" for a house and "." for an empty plot, and its runs are read off the text.
 """
 
+import functools
 import itertools
 import random
 import re
@@ -144,3 +145,78 @@ def some_journals(plots, times, tries):
         yield (plots, times, tuple(plain_notes(plots, row)))
         yield (plots, times, true_notes(source, plots, row))
         yield (plots, times, any_notes(source, times))
+
+
+def small_journals():
+    """Pairs of a journal on 0 to 5 plots and the rows of its times, with their true notes, as they ascend."""
+    for plots in range(6):
+        for times in range(plots + 1):
+            rows = sorted_rows(plots, times)
+            for journal in some_journals(plots, times, 15):
+                yield journal, rows
+
+
+def orders_among(rows, journal):
+    """The rows that make all notes of the journal true."""
+    return [row for row, true in rows if true.issuperset(journal[2])]
+
+
+def small_possible_journals():
+    """Pairs of a journal on 0 to 5 plots that has orders, and the list of these."""
+    for journal, rows in small_journals():
+        orders = orders_among(rows, journal)
+        if orders:
+            yield journal, orders
+
+
+@functools.lru_cache(maxsize=None)
+def profiles(times):
+    """The numbers of groups of all rows of so many houses, on a street with room for all as groups of their own.
+
+    Each is in a pair with the true notes.
+    """
+    plots = 2 * times
+    rows = {plain_groups(plots, row): row for row in itertools.permutations(range(plots), times)}
+    return [(counts, frozenset(plain_notes(plots, row))) for counts, row in sorted(rows.items())]
+
+
+def plain_evidence(journal, is_there_an_order):
+    """The evidence, from lists of rows on a long street."""
+    plots, times, notes = journal
+    if is_there_an_order:
+        return None
+    for time in range(times):
+        early = [note for note in notes if note[0] <= time]
+        if not any(true.issuperset(early) for counts, true in profiles(time + 1)):
+            return ("stuck", time)
+    return ("room", min(counts[-1] for counts, true in profiles(times) if true.issuperset(notes)))
+
+
+def doubtful_notes(source, times):
+    """Notes that are true for a row on a long street, but for at most two of another value."""
+    row = tuple(source.sample(range(2 * times), times))
+    notes = list(true_notes(source, 2 * times, row))
+    for time, sort, value in any_notes(source, times)[::-1][:source.randrange(3)]:
+        notes = [note for note in notes if note[:2] != (time, sort)] + [(time, sort, value)]
+    return tuple(sorted(notes))
+
+
+def doubtful_journals():
+    """Pairs of a journal on 0 to 5 plots and the rows of its times; many of them have no order, for late reasons."""
+    source = random.Random(11)
+    for plots in range(6):
+        for times in range(plots + 1):
+            rows = sorted_rows(plots, times)
+            for attempt in range(40):
+                yield (plots, times, doubtful_notes(source, times)), rows
+
+
+def impossible_journals():
+    """Pairs of a journal without an order and its evidence."""
+    yield (4, 3, ((0, "groups", 2),)), ("stuck", 0)
+    yield (4, 3, ((2, "groups", 3),)), ("room", 3)
+    yield (9, 3, ((1, "house", "between"),)), ("stuck", 1)
+    yield (3, 3, ((1, "groups", 2), (2, "house", "new"))), ("room", 3)
+    yield (16, 16, ((7, "groups", 9),)), ("stuck", 7)
+    yield (16, 16, ((8, "groups", 9),)), ("room", 2)
+    yield (1, 1, ((0, "groups", 10 ** 5000),)), ("stuck", 0)

@@ -12,6 +12,28 @@ BARRED_WORDS = re.compile(
     r"\b(type|typing|typing_extensions|enum|Enum|IntEnum|StrEnum|Flag|IntFlag|Generic|Protocol|ABC|ABCMeta|namedtuple"
     r"|NamedTuple|TypedDict|TYPE_CHECKING|abstractmethod)\b|dataclass|overload|contextmanager")
 
+BUILTINS = set(
+    "len range enumerate zip min max sum abs sorted reversed int str bool list tuple dict set isinstance ord repr any all "
+    "divmod ValueError LookupError RuntimeError OverflowError KeyError".split())
+METHODS = set(
+    "append clear copy count endswith extend find get index insert isalnum isalpha isdigit islower isspace isupper items "
+    "join keys ljust lower lstrip partition pop remove replace reverse rfind rjust rpartition rsplit rstrip setdefault "
+    "split splitlines startswith strip update upper values zfill bit_length".split())
+
+INTERFACE = {
+    "rows": "is_row groups houses mirrored",
+    "choices": "is_choices is_gaps choices_of gaps_of row_of changed",
+    "journals": "is_journal is_order journal_of with_note without_note",
+    "verdicts": "evidence is_possible first_order",
+    "numbers": "count_orders order_at number_of all_orders",
+    "walks": "possible_groups count_walks orders_with likeliest",
+    "chances": "group_chances mean_groups house_chances plot_chances together_chance",
+    "street": "Street",
+    "texts": "row_text choices_text journal_text row_in choices_in journal_in",
+    "sheet": "answers",
+    "errors": "BadText BadLine Impossible Misfit Noted NoPlot NoTime NoChoice NoNote NoNumber NoOperation Built TooMany",
+}
+
 
 def package_files():
     return sorted(PACKAGE.glob("*.py"))
@@ -92,6 +114,30 @@ class LanguageTests(unittest.TestCase):
                     self.assertNotIn(node.arg, taken, path.name)
                 if isinstance(node, ast.Name) and isinstance(node.ctx, ast.Store):
                     self.assertNotIn(node.id, taken, path.name)
+
+    def test_builtins(self):
+        for path in package_files():
+            for node in ast.walk(ast.parse(path.read_text())):
+                if isinstance(node, ast.Name) and node.id in dir(builtins):
+                    self.assertIn(node.id, BUILTINS, path.name)
+
+    def test_methods(self):
+        own = set()
+        for path in package_files():
+            for node in ast.walk(ast.parse(path.read_text())):
+                if isinstance(node, ast.ClassDef):
+                    own |= {part.name for part in node.body if isinstance(part, ast.FunctionDef)}
+        for path in package_files():
+            for node in ast.walk(ast.parse(path.read_text())):
+                if isinstance(node, ast.Call) and isinstance(node.func, ast.Attribute):
+                    self.assertIn(node.func.attr, METHODS | own, path.name)
+
+    def test_interface_is_defined_where_it_is_listed(self):
+        for stem, names in INTERFACE.items():
+            body = ast.parse((PACKAGE / (stem + ".py")).read_text()).body
+            defined = [node.name for node in body if isinstance(node, (ast.FunctionDef, ast.ClassDef))]
+            for name in names.split():
+                self.assertIn(name, defined, stem)
 
     def test_no_two_files_import_from_each_other(self):
         needs = {}

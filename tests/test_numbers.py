@@ -10,19 +10,10 @@ from onlygroups.numbers import all_orders, count_orders, number_of, order_at
 from onlygroups.texts import journal_in
 from tests.calls import as_lists, check_call, check_error, check_parameters, raised, same_kind
 from tests.streets import choices_for, mixed_rows, plain_choices, plain_gaps, plain_groups, plain_notes
-from tests.streets import some_journals, sorted_rows, true_notes
+from tests.streets import small_journals, sorted_rows, true_notes
 from tests.things import HUGE
 
 LANE = (5, 4, ((1, "groups", 2), (3, "groups", 1)))
-
-
-def small_journals():
-    """Pairs of a journal on 0 to 5 plots and the rows of its times, with their true notes, as they ascend."""
-    for plots in range(6):
-        for times in range(plots + 1):
-            rows = sorted_rows(plots, times)
-            for journal in some_journals(plots, times, 15):
-                yield journal, rows
 
 
 def great_journals():
